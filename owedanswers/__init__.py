@@ -1,0 +1,1 @@
+"""What is owed on a line when its borrower is cut off."""
