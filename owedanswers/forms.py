@@ -8,6 +8,8 @@ MOST_LETTERS = 3
 MOST_DIGITS = 60
 LENGTH_WORDS = ("any", "none", "some")
 ROUND_WORDS = ("first", "any")
+PART_DIGITS = 64
+PART = 10 ** 64
 
 
 def is_list_name(text):
@@ -30,12 +32,23 @@ def is_symbol(text):
     return is_list_name(text) or is_round_symbol(text)
 
 
+def _digits(number):
+    """The decimal digits of an integer that is at least 0."""
+    parts = []
+    # Python writes only integers of up to some thousand digits at once.
+    while number >= PART:
+        number, part = divmod(number, PART)
+        parts.append(str(part).zfill(PART_DIGITS))
+    parts.append(str(number))
+    return "".join(parts[::-1])
+
+
 def _part(coefficient, symbol):
     """A coefficient without its sign, and its symbol."""
     size = abs(coefficient)
     if size == 1:
         return symbol
-    return f"{size}*{symbol}"
+    return f"{_digits(size)}*{symbol}"
 
 
 def _joined(parts):
@@ -146,7 +159,7 @@ class Form:
     def __str__(self):
         parts = [(many, _part(many, symbol)) for symbol, many in self._pairs()]
         if self.constant != 0 or not parts:
-            parts.insert(0, (self.constant, str(abs(self.constant))))
+            parts.insert(0, (self.constant, _digits(abs(self.constant))))
         return str(_joined(parts))
 
 

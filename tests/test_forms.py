@@ -1,5 +1,6 @@
 """[4], [2] and the class Form of the section owedanswers/forms.py."""
 
+import sys
 import unittest
 from itertools import product
 
@@ -88,6 +89,32 @@ class FormTest(unittest.TestCase):
         ]
         for form, text in cases:
             self.assertEqual(str(form), text)
+
+    def test_text_of_numbers_with_many_digits(self):
+        form = Form(1, a=-1, b=2)
+        for _ in range(80):
+            form = form * 10 ** 59
+        zeros = "0" * (59 * 80)
+        self.assertEqual(str(form), f"1{zeros} - 1{zeros}*a + 2{zeros}*b")
+        self.assertEqual(str(Form(0, r7=1) - form), f"-1{zeros} + 1{zeros}*a - 2{zeros}*b + r7")
+        self.assertEqual(str(Form(0, a=3) * -(10 ** 5000)), "-3" + "0" * 5000 + "*a")
+        self.assertEqual(str(Form(7) - 10 ** 6000), "-" + "9" * 5999 + "3")
+
+    def test_text_of_numbers_around_parts_of_digits(self):
+        for many in [*range(1, 70), *range(120, 140), *range(185, 200), 639, 640, 641, 4299, 4300]:
+            for number in (10 ** many - 1, 10 ** (many - 1), 10 ** (many - 1) + 7, 123456789 ** many % 10 ** many + 1):
+                self.assertEqual(str(Form(number)), str(number))
+                self.assertEqual(str(Form(-number, ab=number)), f"-{number} + {number}*ab".replace(" 1*", " "))
+
+    @unittest.skipUnless(hasattr(sys, "set_int_max_str_digits"), "this Python writes integers of any length")
+    def test_text_where_python_writes_few_digits(self):
+        before = sys.get_int_max_str_digits()
+        sys.set_int_max_str_digits(640)
+        try:
+            text = str(Form(10 ** 700, a=10 ** 900))
+        finally:
+            sys.set_int_max_str_digits(before)
+        self.assertEqual(text, "1" + "0" * 700 + " + 1" + "0" * 900 + "*a")
 
     def test_of(self):
         self.assertEqual(Form.of(3, [("ab", 2), ("r5", -1)]), Form(3, ab=2, r5=-1))
