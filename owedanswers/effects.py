@@ -1,5 +1,6 @@
 """What a row does to a line, of which only the mark and the number of answers owed matter."""
 
+MARKS = ("whole", "out", "in", "both", "closed")
 NEEDY = ("ask", "begin", "finish", "read", "head", "body")
 HUNGRY = ("read", "head")
 SENDING = ("ask", "finish")

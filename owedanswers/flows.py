@@ -3,14 +3,24 @@
 from owedanswers.functions import MIDDLES
 
 
-class Flow:
-    """The spots of a function and the moves between them."""
+def way_of(spot):
+    """The way by which the function is left at a spot."""
+    return spot[2][-1] if spot[2] else ()
 
-    def __init__(self, function):
+
+def list_of(function, row):
+    """The name of the list of an each."""
+    return function.rows[row].split(" ")[1]
+
+
+class Flow:
+    """The spots of a function and the moves between them, also if some rows are spared from cuts."""
+
+    def __init__(self, function, spared=()):
         self.function = function
         self.words = [row.split(" ")[0] for row in function.rows]
         self._steps = function.step_rows()
-        self._waits = function.waits()
+        self._waits = [row for row in function.waits() if row not in spared]
         self._loops = [self._around(row, "each") for row in range(len(self.words))]
         self._retries = [self._around(row, "retry") for row in range(len(self.words))]
         self._middles = {}
@@ -45,11 +55,22 @@ class Flow:
 
     def listed(self, row):
         """The name of the list of an each."""
-        return self.function.rows[row].split(" ")[1]
+        return list_of(self.function, row)
 
     def is_left(self, spot):
         """Whether the function is left there."""
         return spot[0] == len(self.words)
+
+    def moves_of(self, row):
+        """The moves of a step row, ascending, whatever the lists are like."""
+        word = self.words[row]
+        if word in ("each", "end"):
+            return ["item", "over"]
+        if word == "maybe":
+            return ["no", "yes"]
+        if word == "check":
+            return ["fail", "go"]
+        return ["cut", "go"] if row in self._waits else ["go"]
 
     def possible(self, row, lengths, done):
         """The moves of a step row, ascending, that are possible when so many rounds of its loop are done."""
@@ -58,11 +79,7 @@ class Flow:
             return ["item"] if lengths[self.listed(row)] > 0 else ["over"]
         if word == "end":
             return ["item"] if done + 1 < lengths[self.listed(self.loop(row))] else ["over"]
-        if word == "maybe":
-            return ["no", "yes"]
-        if word == "check":
-            return ["fail", "go"]
-        return ["cut", "go"] if row in self._waits else ["go"]
+        return self.moves_of(row)
 
     def start(self):
         """The first spot."""

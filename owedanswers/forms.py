@@ -60,7 +60,7 @@ def _joined(parts):
     return body
 
 
-def _fits_length(word, length):
+def fits_length(word, length):
     """Whether a list of this word may have this length."""
     if word == "none":
         return length == 0
@@ -186,7 +186,7 @@ class Domain:
     def __contains__(self, x):
         if sorted(x) != self.symbols():
             return False
-        fits = [_fits_length(word, x[name]) for name, word in self._lengths.items()]
+        fits = [fits_length(word, x[name]) for name, word in self._lengths.items()]
         return all(fits) and all([_fits_round(word, x[symbol], x[name]) for symbol, name, word in self._rounds])
 
     def _slope(self, form, name):

@@ -60,9 +60,23 @@ class Door:
 
     def copy(self):
         """A new door with the same words."""
-        other = Door(end=self._words["end"], fail=self._words["fail"], cut=self._words["cut"])
+        other = self._alike()
         for way, word in self._single.items():
             other.change(way, word)
+        return other
+
+    def _alike(self):
+        """A new door with the same words for the three reasons alone."""
+        return Door(end=self._words["end"], fail=self._words["fail"], cut=self._words["cut"])
+
+    def moved(self, places):
+        """A new door, for a function whose rows stand in other places: a dict from the rows to the new ones."""
+        other = self._alike()
+        for way, word in self._single.items():
+            if way == ():
+                other.change(way, word)
+            elif way[1] in places:
+                other.change((way[0], places[way[1]]), word)
         return other
 
 

@@ -2,8 +2,9 @@
 
 from owedanswers.effects import READING, SENDING, fault_of, mark_behind, owed_behind
 from owedanswers.errors import BadMove, BadName
-from owedanswers.flows import Flow
+from owedanswers.flows import Flow, way_of
 from owedanswers.pools import is_borrower, reason_of
+from owedanswers.shapes import is_number, is_tuple
 from owedanswers.tallies import Tally
 
 
@@ -34,7 +35,7 @@ class Walk:
         self.way = None
         self.report = None
         if self.is_over:
-            self.way = spot[2][-1] if spot[2] else ()
+            self.way = way_of(spot)
             self.report = (reason_of(self.way), self.asked, self.taken)
 
     @property
@@ -130,18 +131,13 @@ class Run:
         self.thrown = thrown
 
 
-def _is_row(value, row):
-    """Whether any value is the number of a row."""
-    return isinstance(value, int) and not isinstance(value, bool) and value == row
-
-
 def _planned(walk, moves):
     """Does the steps of a run ahead of the line; raises BadMove with the first that is not possible."""
     for at, pair in enumerate(moves):
-        if not isinstance(pair, tuple) or len(pair) != 2:
+        if not is_tuple(pair, 2):
             raise BadMove(at)
         row, move = pair
-        if not _is_row(row, walk.spot[0]):
+        if not is_number(row) or row != walk.spot[0]:
             raise BadMove(at)
         walk.step(move)
     if not walk.is_over:

@@ -1,6 +1,7 @@
 """All reports of the runs of a function, without going through the runs one by one."""
 
 from owedanswers.effects import EMPTYING, READING, fault_of, mark_behind, owed_behind
+from owedanswers.flows import way_of
 from owedanswers.pools import reason_of
 
 
@@ -93,9 +94,8 @@ class Tally:
         bags = {}
         for key, bag in self._ends():
             spot, _, _, owed = key
-            way = spot[2][-1] if spot[2] else ()
             for thrown, bits in bag.items():
-                place = (reason_of(way), owed + thrown)
+                place = (reason_of(way_of(spot)), owed + thrown)
                 bags[place] = bags.get(place, 0) | bits
         found = []
         for place, bits in bags.items():
