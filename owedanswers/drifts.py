@@ -1,6 +1,6 @@
 """By how much a round of an each changes what is owed."""
 
-from owedanswers.effects import EMPTYING, mark_behind, owed_behind
+from owedanswers.effects import mark_behind, owed_behind
 
 
 def hull(span, other):
@@ -14,7 +14,8 @@ class Drifts:
     """What the rounds of each loop do to a line.
 
     A span is a pair: how many answers are owed, at least and at most, more than at the beginning of the round.
-    Faults do not matter here: the entries inside the loop tell them.
+    Faults do not matter here: the entries inside the loop tell them. Nor do the ways that come to a retry on
+    their way: it needs a clean line in each round, so that the round ends as it began or the next one has a fault.
     """
 
     def __init__(self, chart):
@@ -29,17 +30,13 @@ class Drifts:
         key = (first, mark)
         if key not in self._known:
             ends = self._round_ends(first, mark)
-            # A line that is emptied in all rounds is alike before them, or else one of them has a fault.
             self._known[key] = None if ends is None else ends.get(mark, (0, 0))
         return self._known[key]
 
     def _round_ends(self, first, mark):
-        """A dict from marks to spans, for rounds that come to their end and do not empty the line.
-
-        None if no round comes to its end.
-        """
+        """A dict from the marks at the end of a round to spans, None if no round comes to its end."""
         loop = self._flow.loop(first[0])
-        ahead = {first: {} if self._chart.is_retry(first) else {mark: (0, 0)}}
+        ahead = {first: {mark: (0, 0)}}
         for spot in self._order[self._places[first]:]:
             spans = ahead.pop(spot, None)
             if spans is None:
@@ -54,9 +51,9 @@ class Drifts:
         return None
 
     def _behind(self, spot, move, after, spans):
-        """Pairs (mark, span) behind a move, none if the line is emptied by it."""
+        """Pairs (mark, span) behind a move, none at a retry."""
         word = self._flow.words[spot[0]]
-        if self._chart.is_retry(after) or (move == "go" and word in EMPTYING):
+        if self._chart.is_retry(after):
             return []
         if move != "go":
             return list(spans.items())

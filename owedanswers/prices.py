@@ -54,7 +54,7 @@ def needless(function, door):
 
 def _thrown(word, mark, most):
     """How many answers are thrown away of a line with a mark and so many answers owed."""
-    if word == "drain" and mark != "closed" and mark not in HALF_SENT:
+    if word == "drain" and mark not in HALF_SENT:
         return most
     return most + 1 if word == "ping" and mark == "whole" else 0
 

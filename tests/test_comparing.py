@@ -149,6 +149,25 @@ class FirstPartedTest(unittest.TestCase):
         self.assertEqual(first_parted(twice, function("each b, ask, maybe, return, end, end"), 4),
                          ((0, 2, 0), ("end", 1, 0), 1))
 
+    def test_the_least_sum_before_the_least_tuple(self):
+        one = function("each a, check, end, each b, ask, end, each b, read, end")
+        other = function("each b, ask, read, end")
+        self.assertEqual(parted(one, other, {"b": 2}), (("cut", 1, 0), 1))
+        self.assertEqual(first_parted(one, other, 4), ((1, 0), ("fail", 0, 0), 0))
+        self.assertEqual(first_parted(other, one, 4), ((1, 0), ("fail", 0, 0), 1))
+
+    def test_sums_up_to_most(self):
+        one = function("each a, ask, end, each b, check, end")
+        other = function("each b, check, end, each a, ask, end")
+        for most in (0, 1):
+            self.assertIsNone(first_parted(one, other, most))
+        for most in (2, 3, 4):
+            self.assertEqual(first_parted(one, other, most), ((1, 1), ("fail", 0, 0), 1))
+        one = function("each a, ask, end, each b, return, end, each c, check, end")
+        other = function("each b, return, end, each a, ask, end, each c, check, end")
+        self.assertEqual(first_parted(one, other, 4), ((1, 1, 0), ("end", 0, 0), 1))
+        self.assertIsNone(first_parted(one, other, 1))
+
     def test_without_lists(self):
         self.assertEqual(first_parted(Function.of("ask"), Function.of("ask", "ask"), 0), ((), ("end", 1, 0), 0))
         self.assertEqual(first_parted(Function.of("ask"), Function.of("ask", "ask"), 4), ((), ("end", 1, 0), 0))

@@ -299,6 +299,37 @@ class SoundTest(unittest.TestCase):
         self.assert_wrong(rows, ends + inside("any")[2:-1] + [entry(4, 0, (1, (("r0", 1),)), lengths=("some",),
                                                                     rounds=((0, "first"),))])
 
+    def test_the_end_of_an_each(self):
+        rows = "each a, pause, end"
+        paper = account(function(rows)).paper()
+        for word, right in (("any", True), ("first", False), ("some", False)):
+            one = entry(2, 0, lengths=("some",), rounds=((0, word),))
+            self.assertIn(entry(2, 0, lengths=("some",), rounds=((0, "any"),)), paper)
+            (self.assert_right if right else self.assert_wrong)(rows, paper + (one,))
+            inside = entry(1, 0, lengths=("some",), rounds=((0, word),))
+            (self.assert_wrong if word == "some" else self.assert_right)(rows, paper + (inside,))
+        rows = "try, each a, pause, end, finally, each b, pause, end, end"
+        paper = account(function(rows)).paper()
+        for words in (("any", "any"), ("first", "any"), ("any", "first"), ("first", "first")):
+            one = entry(7, 0, lengths=("some", "some"), rounds=((1, words[0]), (5, words[1])), events=(("cut", 2),))
+            (self.assert_right if words[1] == "any" else self.assert_wrong)(rows, paper + (one,))
+
+    def test_moves_that_an_each_does_not_have(self):
+        rows = "each a, retry 1, pause, end, end"
+        paper = account(function(rows)).paper()
+        self.assert_right(rows, paper + (entry(0, 1, lengths=("none",)), entry(5, 1, lengths=("none",))))
+        self.assert_wrong(rows, paper + (entry(0, 1, lengths=("none",)),))
+        for word in ("some", "any"):
+            self.assert_wrong(rows, paper + (entry(0, 1, lengths=(word,)), entry(5, 1, lengths=("none",))))
+        rows = "each a, pause, end, check"
+        paper = account(function(rows)).paper()
+        ends = (entry(1, 1, lengths=("some",), rounds=((0, "any"),)), entry(2, 1, lengths=("some",), rounds=((0, "any"),)),
+                entry(4, 1, lengths=("some",), rounds=((0, "any"),), events=(("cut", 1),)), entry(3, 1, lengths=("some",)),
+                entry(4, 1, lengths=("some",)), entry(4, 1, lengths=("some",), events=(("fail", 3),)))
+        self.assert_right(rows, paper + ends + (entry(0, 1, lengths=("some",)),))
+        self.assert_wrong(rows, paper + ends + (entry(0, 1, lengths=("any",)),))
+        self.assert_wrong(rows, paper + ends + (entry(0, 1, lengths=("none",)),))
+
     def test_symbols_of_only_one_of_two_forms(self):
         rows = "each a, pause, end"
         for low, right in (((1, (("a", -1),)), True), ((2, (("a", -1),)), False), ((3, (("a", -2),)), False),
@@ -384,6 +415,10 @@ class SoundTest(unittest.TestCase):
             self.assert_wrong(rows, paper[:1] + (entry(1, low, high, mark="closed"), entry(2, low, high, mark="closed"),
                                                  entry(2, low, high, mark="closed", events=cut)))
         self.assert_wrong(rows, [entry(0, 0), entry(1, 0), entry(2, 0), entry(2, 0, events=cut)])
+        for nothing in ((False, ()), (0, []), [0, ()], (0,), (0, (), ()), 0, None, ((), 0)):
+            self.assert_wrong(rows, paper + ((paper[1][:4] + (nothing, ZERO)),))
+            self.assert_wrong(rows, paper + ((paper[1][:4] + (ZERO, nothing)),))
+            self.assert_wrong(rows, paper[:1] + ((paper[1][:4] + (ZERO, nothing)),) + paper[2:])
         self.assert_right("drain", [entry(0, 0), entry(1, 0), entry(0, 0, mark="closed"), entry(1, 0, mark="closed")], Door())
         for row in ("ask", "begin", "finish", "read", "head", "body"):
             self.assert_wrong(row, [entry(0, 0, mark="closed")])

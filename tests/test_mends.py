@@ -16,6 +16,7 @@ from tests.test_judging import single, some_doors
 
 SMALL = [
     "ask, read", "ask, head, body", "begin, finish, read", "ask, ask, read, read", "pause, ask, read, check",
+    "pause, pause, ask, read", "ask, read, pause, ask, read, pause",
     "try, ask, read, finally, drain, end", "try, ask, read, rescue, pause, drain, end", "ask, check, read",
     "try, ask, read, rescue, close, end", "ask", "ask, return", "maybe, ask, return, end, ask, read",
     "each a, ask, end, each a, read, end", "each a, ask, read, end", "ask, pause, pause, read",
