@@ -60,6 +60,12 @@ SOME = [
     "ask, maybe, ask, end, maybe, read, end, pause, drain",
     "ask, ask, maybe, read, else, ask, end, maybe, ask, else, read, end, pause, drain",
     "maybe, begin, end, pause",
+    "maybe, each a, maybe, ask, end, end, ask, else, each b, maybe, ask, end, end, ask, end, each c, end, pause",
+    "maybe, each a, ask, end, each b, maybe, ask, end, end, check, else, each b, ask, end, each a, maybe, ask, end, end, check"
+    ", end, each c, end, pause",
+    "maybe, each a, ask, end, else, maybe, ask, ask, ask, else, ask, ask, ask, ask, end, end, pause",
+    "retry 2, each a, check, end, check, end",
+    "retry 2, check, each a, check, end, end, each a, pause, end",
     "each a, pause, retry 3, try, ask, check, read, rescue, drain, end, end, pause, end",
     "each a, retry 2, retry 2, try, ask, check, read, rescue, drain, end, end, end, pause, end, pause",
     "ask, ask, each a, read, read, retry 2, try, ask, ask, check, read, read, rescue, drain, end, end, ask, ask, end, drain",
@@ -91,7 +97,7 @@ FAULTY = {
     "ask, ask, each a, read, end": "starved", "each a, ask, end, each b, read, end": "starved",
     "each a, ask, end, each a, read, read, end": "starved", "each a, ask, end, each a, read, maybe, read, end, end": "starved",
     "ask, ask, ask, ask, ask, each a, maybe, read, end, end": "starved", "each a, ask, retry 1, end, end": "stale",
-    "each a, retry 1, end, ask, end": "stale", "retry 2, ask, check, end": "stale",
+    "each a, retry 1, end, ask, end": "stale", "each a, retry 1, end, retry 1, end, ask, end": "stale", "retry 2, ask, check, end": "stale",
     "retry 2, try, check, rescue, close, end, ask, end": "closed", "retry 2, each a, ask, check, end, drain, end": "stale",
     "ask, each a, pause, end, maybe, each a, read, end, end": "starved",
     "each a, try, check, read, rescue, end, end": "starved", "each a, end, maybe, each a, read, end, else, body, end": "amid",
@@ -259,9 +265,12 @@ class EntriesTest(TableCase):
     def test_what_can_be_joined_is_joined(self):
         for text in ("each a, ask, end, each a, read, end", "each a, end, each b, maybe, ask, end, end, each a, pause, end",
                      "maybe, each a, ask, end, else, maybe, each a, ask, end, end, end",
-                     "maybe, ask, ask, end, each a, maybe, ask, end, ask, end, each a, read, end, drain"):
+                     "maybe, ask, ask, end, each a, maybe, ask, end, ask, end, each a, read, end, drain",
+                     "retry 2, each a, check, end, check, end", "retry 2, check, each a, check, end, end"):
             table = account(function(text))
             self.assertEqual([len(table.entries(spot)) for spot in table.spots()], [1] * len(table), text)
+        table = account(function("maybe, each a, ask, end, else, maybe, ask, ask, ask, else, ask, ask, ask, ask, end, end, pause"))
+        self.assertEqual(len(table.entries((16, (), ()))), 2)
 
     def test_words(self):
         table = account(function("each a, return, end"))
