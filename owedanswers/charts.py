@@ -18,8 +18,8 @@ class Chart:
     def _from(self, spot):
         """Pairs (move, next spot) for the moves of a spot."""
         if self.flow.is_left(spot):
-            return []
-        return [(move, self.flow.after(spot, move)) for move in self.flow.moves_of(spot[0])]
+            return ()
+        return tuple([(move, self.flow.after(spot, move)) for move in self.flow.moves_of(spot[0])])
 
     def has(self, spot):
         """Whether some moves reach a spot."""
@@ -27,7 +27,7 @@ class Chart:
 
     def moves_from(self, spot):
         """Pairs (move, next spot) for all moves of a spot."""
-        return list(self._steps[spot])
+        return self._steps[spot]
 
     def _is_at(self, spot, word):
         """Whether a spot is at a row that begins with a word."""
@@ -44,8 +44,8 @@ class Chart:
     def onward(self, spot):
         """Pairs (move, next spot) for the moves of a spot that do not go back to the rows of an each."""
         if self.is_round_end(spot):
-            return [(move, after) for move, after in self._steps[spot] if move == "over"]
-        return list(self._steps[spot])
+            return tuple([pair for pair in self._steps[spot] if pair[0] == "over"])
+        return self._steps[spot]
 
     def ordered(self):
         """All spots, each behind those from which a move that does not go back leads to it."""

@@ -19,19 +19,35 @@ class Hunt:
         self._flow = chart.flow
         self._door = door
         self._lists = self._flow.function.lists
+        self._places = self._list_places()
         self._later = self._loops_later()
+        self._needless = {spot: self._needless_at(spot) for spot in self._later}
         self._before = {}
 
+    def _list_places(self):
+        """For the row of each loop and that of its end the place of the list among the lists."""
+        places = {}
+        for row in self._flow.function.step_rows():
+            if self._flow.words[row] in ("each", "end"):
+                each = row if self._flow.words[row] == "each" else self._flow.loop(row)
+                places[row] = self._lists.index(self._flow.listed(each))
+        return places
+
     def _loops_later(self):
-        """For each spot a dict of the lists over which a loop may begin there or later."""
+        """For each spot a dict of the places of the lists over which a loop may begin there or later."""
         later = {}
         for spot in self._chart.ordered()[::-1]:
             later[spot] = {}
             for _, after in self._chart.onward(spot):
                 later[spot].update(later[after])
             if not self._flow.is_left(spot) and self._flow.words[spot[0]] == "each":
-                later[spot][self._flow.listed(spot[0])] = True
+                later[spot][self._places[spot[0]]] = True
         return later
+
+    def _needless_at(self, spot):
+        """The places of the lists of which nothing matters at a spot."""
+        here = self._places.get(self._flow.loop(spot[0]))
+        return [at for at in range(len(self._lists)) if at != here and at not in self._later[spot]]
 
     def found(self):
         """A tuple (kind, lengths, moves) for a run with a fault than which no run with a fault is shorter."""
@@ -64,9 +80,11 @@ class Hunt:
                 return (None, None)
         if self._is_left_owing(after, mark, owed):
             return ("left", None)
-        if self._flow.loop(after[0]) is None:
+        if begun > 0 and self._flow.loop(after[0]) is None:
             begun = 0
-        return (None, (after, mark, owed, begun, self._needed(after, known)))
+        for at in self._needless[after]:
+            known = self._learnt(known, at, UNKNOWN)
+        return (None, (after, mark, owed, begun, known))
 
     def _is_left_owing(self, spot, mark, owed):
         """Whether a run that comes to a spot has the fault `left`."""
@@ -74,33 +92,23 @@ class Hunt:
             return False
         return self._door[way_of(spot)] == "keep"
 
-    def _list_at(self, row):
-        """The name of the list of an each, from its row or that of its end."""
-        return self._flow.listed(row if self._flow.words[row] == "each" else self._flow.loop(row))
-
     def _choose(self, spot, move, begun, known, after):
         """The rounds begun and what is known behind a move of an each or its end; None for both if not possible."""
-        name = self._list_at(spot[0])
-        pair = known[self._lists.index(name)]
-        if begun == 0 and pair == UNKNOWN and name not in self._later[after]:
+        at = self._places[spot[0]]
+        if begun == 0 and known[at] == UNKNOWN and at not in self._later[after]:
             return (0, known)
-        least, is_exact = pair
+        least, is_exact = known[at]
         if move == "over":
-            return (0, self._learnt(known, name, (begun, True))) if begun == least else (None, None)
+            return (0, self._learnt(known, at, (begun, True))) if begun == least else (None, None)
         if is_exact and begun == least:
             return (None, None)
-        return (begun + 1, self._learnt(known, name, (max(least, begun + 1), is_exact)))
+        return (begun + 1, self._learnt(known, at, (max(least, begun + 1), is_exact)))
 
-    def _learnt(self, known, name, pair):
-        """What is known of the lists with another pair for a list."""
-        return tuple([pair if other == name else old for other, old in zip(self._lists, known)])
-
-    def _needed(self, spot, known):
-        """What matters of what is known of the lists at a spot."""
-        loop = self._flow.loop(spot[0])
-        listed = None if loop is None else self._flow.listed(loop)
-        return tuple([pair if name == listed or name in self._later[spot] else UNKNOWN
-                      for name, pair in zip(self._lists, known)])
+    def _learnt(self, known, at, pair):
+        """What is known of the lists, with another pair for one of them."""
+        if known[at] == pair:
+            return known
+        return known[:at] + (pair,) + known[at + 1:]
 
     def _told(self, kind, state, move):
         """The run that comes to a state and ends with a fault at a move."""
@@ -112,10 +120,10 @@ class Hunt:
 
     def _least_lengths(self, moves):
         """The least lengths of the lists for some moves."""
-        lengths = {name: 0 for name in self._lists}
+        lengths = [0 for _ in self._lists]
         begun = 0
         for row, move in moves:
             if move == "item":
                 begun = 1 if self._flow.words[row] == "each" else begun + 1
-                lengths[self._list_at(row)] = max(lengths[self._list_at(row)], begun)
-        return tuple([lengths[name] for name in self._lists])
+                lengths[self._places[row]] = max(lengths[self._places[row]], begun)
+        return tuple(lengths)
